@@ -13,7 +13,14 @@ import (
 )
 
 // stretch is where something lies in memory; of a list its spare room too.
-type stretch struct{ begin, end uintptr }
+type stretch struct {
+	begin, end uintptr
+	held       unsafe.Pointer // as long as a stretch is looked at, nothing else may come to lie there
+}
+
+func stretchAt(at unsafe.Pointer, size int) stretch {
+	return stretch{uintptr(at), uintptr(at) + uintptr(size), at}
+}
 
 // memory has the stretches of all lists and texts of some values; of a ring those of all that it keeps.
 func memory(values ...any) []stretch {
@@ -30,14 +37,13 @@ func memoryOf(v reflect.Value) []stretch {
 	case reflect.Pointer:
 		return memoryOf(v.Elem())
 	case reflect.String:
-		begin := uintptr(unsafe.Pointer(unsafe.StringData(v.String())))
-		all = append(all, stretch{begin, begin + uintptr(v.Len())})
+		all = append(all, stretchAt(unsafe.Pointer(unsafe.StringData(v.String())), v.Len()))
 	case reflect.Struct:
 		for i := range v.NumField() {
 			all = append(all, memoryOf(v.Field(i))...)
 		}
 	case reflect.Slice:
-		all = append(all, stretch{v.Pointer(), v.Pointer() + uintptr(v.Cap())*v.Type().Elem().Size()})
+		all = append(all, stretchAt(v.UnsafePointer(), v.Cap()*int(v.Type().Elem().Size())))
 		fallthrough
 	case reflect.Array:
 		for i := range v.Len() {

@@ -14,7 +14,14 @@ import (
 )
 
 // stretch is where something lies in memory; of a list its spare room too.
-type stretch struct{ begin, end uintptr }
+type stretch struct {
+	begin, end uintptr
+	held       unsafe.Pointer // as long as a stretch is looked at, nothing else may come to lie there
+}
+
+func stretchAt(at unsafe.Pointer, size int) stretch {
+	return stretch{uintptr(at), uintptr(at) + uintptr(size), at}
+}
 
 // memory has the stretches of all lists and texts of some values.
 func memory(values ...any) []stretch {
@@ -33,14 +40,13 @@ func memoryOf(v reflect.Value) []stretch {
 		if v.Len() < 2 {
 			return nil
 		}
-		begin := uintptr(unsafe.Pointer(unsafe.StringData(v.String())))
-		all = append(all, stretch{begin, begin + uintptr(v.Len())})
+		all = append(all, stretchAt(unsafe.Pointer(unsafe.StringData(v.String())), v.Len()))
 	case reflect.Struct:
 		for i := range v.NumField() {
 			all = append(all, memoryOf(v.Field(i))...)
 		}
 	case reflect.Slice:
-		all = append(all, stretch{v.Pointer(), v.Pointer() + uintptr(v.Cap())*v.Type().Elem().Size()})
+		all = append(all, stretchAt(v.UnsafePointer(), v.Cap()*int(v.Type().Elem().Size())))
 		for i := range v.Len() {
 			all = append(all, memoryOf(v.Index(i))...)
 		}
