@@ -109,6 +109,17 @@ func TestSpoil(t *testing.T) {
 	}
 }
 
+// TestSpoilNothing: W1, a message without bytes, which nobody of a world sends, has none to be turned.
+func TestSpoilNothing(t *testing.T) {
+	for _, b := range ends() {
+		w := begun(t, rulesOf(1, 1))
+		w.Post(api.Message{From: 1})
+		refuses(t, w, spoils(0, b, 1), api.ErrArg)
+		refuses(t, w, spoils(0, b, 0), api.ErrStep)
+		plays(t, w, delivers(0))
+	}
+}
+
 // TestTick: P17.4, who ticks by A: the service, nodes, clients by their addresses, and nobody else.
 func TestTick(t *testing.T) {
 	for nodes := 1; nodes <= 5; nodes++ {
