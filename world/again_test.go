@@ -334,7 +334,7 @@ func letters() []api.Step {
 		delivers(0), delivers(1), delivers(-1), drops(0), doubles(0), doubles(-1), spoils(0, -1, 1), spoils(-1, 5, 255),
 		ticks(1), ticks(2), ticks(101), crashes(1), crashes(2), withins(0, -1), withins(0, 7), withins(-1, 30), restarts(1), restarts(2),
 		promotes(2, 1), promotes(1, 0), saves(1), does(1, makes("/a", "y"), sets("/a", "z")), watches(1, "/a", api.WatchNode), unwatches(1, 1),
-		begins(1), ends1(1), calms(1), calms(2),
+		begins(1), finishes(1), calms(1), calms(2),
 	}
 }
 

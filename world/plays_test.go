@@ -78,7 +78,7 @@ func (x *witness) wish(c chance, i int) api.Step {
 	case k == 0:
 		return begins(i)
 	case k == 1:
-		return ends1(i)
+		return finishes(i)
 	case k == 2:
 		return unwatches(i, pick(c, append(g.watches, api.Watch{})...).Id)
 	case k < 16 && len(g.watches) < 2, k == 3:

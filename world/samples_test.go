@@ -72,7 +72,7 @@ func calms(a int) api.Step { return stepOf(api.StepCalm, a) }
 
 func begins(a int) api.Step { return stepOf(api.StepBegin, a) }
 
-func ends1(a int) api.Step { return stepOf(api.StepEnd, a) }
+func finishes(a int) api.Step { return stepOf(api.StepEnd, a) }
 
 func does(a int, ops ...api.Op) api.Step { return api.Step{Kind: api.StepDo, A: a, Ops: ops} }
 

@@ -323,14 +323,14 @@ func TestClientsSteps(t *testing.T) {
 			refuses(t, w, watches(a, strings.Repeat("/a", 100), 9), want(api.ErrPlace))
 			refuses(t, w, watches(a, "/", 4), want(api.ErrArg))
 			refuses(t, w, unwatches(a, 1), want(api.ErrClient))
-			refuses(t, w, ends1(a), want(api.ErrClient))
+			refuses(t, w, finishes(a), want(api.ErrClient))
 			if want(api.OK) != api.OK {
 				refuses(t, w, begins(a), api.ErrStep)
 				continue
 			}
 			is(t, "P17.5: what Begin tells", plays(t, w, begins(a))[0].Client, a)
 			refuses(t, w, begins(a), api.ErrClient)
-			plays(t, w, ends1(a))
+			plays(t, w, finishes(a))
 		}
 	}
 }
@@ -374,7 +374,7 @@ func TestClientsLife(t *testing.T) {
 	tells(unwatches(2, 1), 13, api.Told{Kind: api.ToldUnwatch, Watch: w1})
 	is(t, "P17.4: what Unwatch sends", flying(t, w), [][3]int{{102, 1, api.NoteUnwatch}})
 	refuses(t, w, unwatches(2, 1), api.ErrClient)
-	tells(ends1(2), 15, api.Told{Kind: api.ToldEnd})
+	tells(finishes(2), 15, api.Told{Kind: api.ToldEnd})
 	is(t, "P17.4: what End sends", flying(t, w), [][3]int{{102, 1, api.NoteUnwatch}, {102, 1, api.NoteClose}})
 	tells(calms(1), 16, api.Told{Kind: api.ToldGone})
 }
@@ -426,7 +426,7 @@ func TestRefusedCounts(t *testing.T) {
 func TestWhatElse(t *testing.T) {
 	full := api.Step{A: 1, B: -7, C: 900, Place: "no place", Ops: make([]api.Op, 9)}
 	w, v := begun(t, rulesOf(1, 1)), begun(t, rulesOf(1, 1))
-	for _, s := range []api.Step{ticks(1), saves(1), crashes(1), restarts(1), begins(1), calms(1), ends1(1), delivers(1), ticks(1), doubles(1), drops(1)} {
+	for _, s := range []api.Step{ticks(1), saves(1), crashes(1), restarts(1), begins(1), calms(1), finishes(1), delivers(1), ticks(1), doubles(1), drops(1)} {
 		full.Kind, full.A = s.Kind, s.A
 		is(t, "P17.5: what is told", plays(t, w, s), plays(t, v, full))
 		is(t, "P17.4: what is left", sightOf(w), sightOf(v))
@@ -438,7 +438,7 @@ func TestTwoWorlds(t *testing.T) {
 	for seed := range uint64(30) {
 		c := chanceOf(seed, 174)
 		rules, others := c.rules(), c.rules()
-		one, same1, other := begun(t, rules), begun(t, rules), begun(t, others)
+		one, likewise, other := begun(t, rules), begun(t, rules), begun(t, others)
 		g, h := againOf(rules), againOf(others)
 		var steps []api.Step
 		for range 120 {
@@ -448,9 +448,9 @@ func TestTwoWorlds(t *testing.T) {
 			h.stepsAlike(t, other, c.anyStep(h))
 		}
 		for _, s := range steps {
-			same1.Step(s)
+			likewise.Step(s)
 		}
-		is(t, "W2: two worlds with the same steps", sightOf(one), sightOf(same1))
+		is(t, "W2: two worlds with the same steps", sightOf(one), sightOf(likewise))
 		g.isLike(t, one)
 		if h.isLike(t, other); t.Failed() {
 			t.Fatalf("seed %d", seed)

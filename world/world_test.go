@@ -9,7 +9,7 @@ import (
 	"herald/world"
 )
 
-// bounds are a rule's field, and its lowest and highest number.
+// bound is a rule's field, and its lowest and highest number.
 type bound struct {
 	name            string
 	field           func(r *api.Rules) *int
