@@ -11,7 +11,7 @@ import (
 type mood struct {
 	lost, doubled, spoilt, within int // of messages
 	crashes, restarts, promotes   int // of all else
-	late                          int // 0: mostly the oldest messages arrive, 1: any, 2: mostly the newest, so that others come very late
+	late                          int // 0: mostly the oldest messages arrive, 1: any, 2: mostly the newest, so that others come very late, 3: mostly the service's, so that views change ahead of all else
 }
 
 func (c chance) mood() mood {
@@ -21,26 +21,36 @@ func (c chance) mood() mood {
 		mood{4, 2, 1, 2, 3, 7, 6, c.IntN(3)},
 		mood{0, 0, 0, 3, 0, 20, 0, c.IntN(3)},
 		mood{20, 5, 5, 0, 1, 6, 2, c.IntN(3)},
-		mood{2, 10, 2, 0, 0, 3, 10, c.IntN(3)})
+		mood{2, 10, 2, 0, 0, 3, 10, c.IntN(3)},
+		mood{1, 1, 0, 1, 1, 10, 20, 3},
+		mood{15, 0, 0, 0, 0, 0, 30, 3})
 }
 
-// message is the place of one among so many.
-func (m mood) message(c chance, count int) int {
-	few := c.IntN(min(count, 1+c.IntN(12)))
+// message is the place of one among those in flight.
+func (m mood) message(c chance, flight []api.Message) int {
+	few := c.IntN(min(len(flight), 1+c.IntN(12)))
 	switch {
 	case m.late == 1:
-		return c.IntN(count)
+		return c.IntN(len(flight))
 	case m.late == 2 && c.IntN(20) > 0:
 		return -1 - few
+	case m.late == 3 && c.IntN(4) > 0:
+		isService := func(m api.Message) bool { return m.From == 0 && m.To < 100 || m.To == 0 && m.From < 100 }
+		if at := slices.IndexFunc(flight, isService); at >= 0 {
+			return at
+		}
 	}
 	return few
 }
 
 // step is one by chance.
 func (x *witness) step(c chance, m mood) api.Step {
-	numbers, _ := x.w.Flight()
-	if len(numbers) > 0 && c.IntN(100) < 84 {
-		a := m.message(c, len(numbers))
+	_, flight := x.w.Flight()
+	if m.late == 3 && c.IntN(3) == 0 {
+		return pick(c, promotes(pick(c, x.members()...), c.IntN(x.rules.Nodes+1)), ticks(pick(c, x.members()...)))
+	}
+	if len(flight) > 0 && c.IntN(100) < 84 {
+		a := m.message(c, flight)
 		switch k := c.IntN(100); {
 		case k < m.lost:
 			return drops(a)

@@ -52,9 +52,15 @@ type guest struct {
 // host is what is to be known of a node.
 type host struct {
 	sight api.Sight
-	marks []mark            // one behind each event since its last start
-	acked map[int]api.Entry // by their stamps
-	full  map[int]bool      // the sessions in whose queues a marker may be
+	marks []mark       // one behind each event since its last start
+	acked map[int]ack  // by their stamps
+	full  map[int]bool // the sessions in whose queues a marker may be
+}
+
+// ack is an entry that a node has acknowledged, and the last view in which it did so.
+type ack struct {
+	entry api.Entry
+	view  int
 }
 
 // mark is how a node stood when its disk was so long.
@@ -70,7 +76,7 @@ func witnessOf(t *testing.T, rules api.Rules, seen map[string]int) *witness {
 	x.guests, x.hosts = make([]guest, rules.Clients+1), make([]host, rules.Nodes+1)
 	x.learn(api.Reply{}, nil)
 	for i := 1; i <= rules.Nodes; i++ {
-		x.hosts[i] = host{acked: map[int]api.Entry{}, full: map[int]bool{}}
+		x.hosts[i] = host{acked: map[int]ack{}, full: map[int]bool{}}
 		x.lookAt(i, api.Step{Kind: api.StepRestart, A: i}, nil)
 	}
 	return x
@@ -317,21 +323,33 @@ func (x *witness) isBound(i int) {
 	}
 }
 
-// hasAcked: P0.10, a node that was started has all that it ever acknowledged.
+// hasAcked: P0.10, a node that was started has all that it ever acknowledged; but what it acknowledged in an earlier view may have given way to a full transfer of its view's primary, who has it then.
 func (x *witness) hasAcked(i int, disk []byte) {
 	x.t.Helper()
 	said, _, size := journal.Recover(disk)
 	if size != len(disk) {
 		x.t.Errorf("P0.10: of the %d bytes of the node %d only %d are whole records", len(disk), i, size)
 	}
-	for stamp, want := range x.hosts[i].acked {
-		if x.hosts[i].sight.Last < stamp {
-			x.t.Errorf("P0.10: the node %d has acknowledged %d, and has no more than %d", i, stamp, x.hosts[i].sight.Last)
+	for stamp, a := range x.hosts[i].acked {
+		if has(said, a.entry) {
+			continue
 		}
-		if at := stamp - said.Stamp - 1; at >= 0 && at < len(said.Entries) && !same(said.Entries[at], want) {
-			x.t.Errorf("P0.10: the node %d has acknowledged %s, and has %s", i, tell(want), tell(said.Entries[at]))
+		primary := said.View.Primary
+		disk, _ := x.w.Disk(primary)
+		others, _, _ := journal.Recover(disk)
+		isReset := a.view < said.View.Num && said.Matched == said.View.Num && primary != i
+		if !isReset || !has(others, a.entry) {
+			x.t.Errorf("P0.10: the node %d has acknowledged %s in the view %d, and is started with no more than %d", i, tell(a.entry), a.view, x.hosts[i].sight.Last)
 		}
+		delete(x.hosts[i].acked, stamp)
+		x.seen["acknowledged and reset"]++
 	}
+}
+
+// has tells whether a journal has an entry, in its log or below that.
+func has(said api.Saved, e api.Entry) bool {
+	at := e.Stamp - said.Stamp - 1
+	return at < 0 || at < len(said.Entries) && same(said.Entries[at], e)
 }
 
 // mayMark finds where a marker may come into a queue of a node: where it was full, or somebody came back with a stamp below the floor.
@@ -390,7 +408,7 @@ func (x *witness) lookAtFlight(s api.Step) {
 			x.t.Errorf("P0.7: the node %d sends the session %d a marker", m.From, n.Session)
 		}
 		if n.Kind == api.NoteAcked {
-			x.acknowledges(m.From, n.Stamp)
+			x.acknowledges(m.From, n)
 		}
 	}
 	if len(numbers) > 0 {
@@ -398,12 +416,12 @@ func (x *witness) lookAtFlight(s api.Step) {
 	}
 }
 
-func (x *witness) acknowledges(i, stamp int) {
+func (x *witness) acknowledges(i int, n api.Note) {
 	disk, _ := x.w.Disk(i)
 	said, _, _ := journal.Recover(disk)
 	for _, e := range said.Entries {
-		if e.Stamp <= stamp {
-			x.hosts[i].acked[e.Stamp] = e
+		if e.Stamp <= n.Stamp {
+			x.hosts[i].acked[e.Stamp] = ack{e, n.View.Num}
 		}
 	}
 }
