@@ -79,7 +79,7 @@ func pieces(line string) []string {
 // everyWord has a word of every kind, and every name of a line.
 func everyWord() []string {
 	return strings.Fields(`0 1 -1 2147483647 / /a /kids "" "a" "/a" ; x world nodes clients queue ring window lease
-		deliver drop double spoil tick crash within restart promote save calm begin end unwatch watch do leave node kids subtree make set check get look list brief counted 01 -0 - @ a1 1a`)
+		deliver drop double spoil tick crash within restart promote save calm begin end unwatch watch do leave node kids subtree make set check get look list brief counted "brief" "counted" "node" "get" "1" 01 -0 - @ a1 1a`)
 }
 
 // linesAround are a line without one of its words, with one more, and with another one in its place.
@@ -153,7 +153,7 @@ func TestFlags(t *testing.T) {
 		reads(t, script(`do 1 make /a ""`+text+` ; make /a ""`+text), does(1, op, op))
 		reads(t, script(`do 1 get /b ; make /a ""`+text+" ; get /b"), does(1, gets("/b"), op, gets("/b")))
 	}
-	for _, text := range []string{"counted brief", "brief brief", "counted counted", "brief counted brief", "brief counted counted", "brief x", "x", "brief 1", "1", "\"\"", "/a", "-1"} {
+	for _, text := range []string{"counted brief", "brief brief", "counted counted", "brief counted brief", "brief counted counted", "\"brief\"", "brief \"counted\"", "/brief", "brief x", "x", "brief 1", "1", "\"\"", "/a", "-1"} {
 		refuses(t, script(`do 1 make /a "" `+text), api.ErrScript, 2)
 		refuses(t, script(`do 1 get /a ; make /a "" `+text+" ; get /a"), api.ErrScript, 2)
 	}
@@ -215,7 +215,7 @@ func TestLineEnds(t *testing.T) {
 			for _, last := range []string{"", end, " ", "\r", "\n\n\n", "#"} {
 				reads(t, text+last, tick, calm)
 			}
-			refuses(t, text+end+"x", api.ErrScript, 3+strings.Count(ahead, "\n")+3*(strings.Count(end, "\n")-1)+strings.Count("", "\n")+1)
+			refuses(t, text+end+"x", api.ErrScript, 1+strings.Count(text+end, "\n"))
 		}
 	}
 	for _, none := range []string{"\v", "\f", "\x00", "\u0085", "\u2028", "\r\r"} {

@@ -275,6 +275,7 @@ func TestToldThings(t *testing.T) {
 		{api.Told{Kind: api.ToldReply, Session: 3, Request: 4, Stamp: 5, Reply: api.Reply{Stamp: 5}}, "hears 3.4 at 5"},
 		{api.Told{Kind: api.ToldReply, Session: 3, Request: 4, Stamp: 5, Reply: api.Reply{Stamp: 5, Results: []api.Result{{Place: "/a", Data: "\"", Version: 1, Made: 2, Changed: 3, Owner: 4, Kids: []string{"k", "l.m"}}, {Place: "b"}}}}, `hears 3.4 at 5 [/a "\"" 1 2 3 4 k l.m] ["b" "" 0 0 0 0]`},
 		{api.Told{Kind: api.ToldWatch, Watch: watch}, "asks for 5 /w kids"},
+		{api.Told{Kind: api.ToldWatch, Watch: api.Watch{Id: 1, Place: "\n", Kind: api.WatchSubtree}}, `asks for 1 "\n" subtree`},
 		{api.Told{Kind: api.ToldUnwatch, Watch: watch}, "gives up 5"},
 		{api.Told{Kind: api.ToldWatched, Watch: watch, Code: api.ErrFull}, "is refused 5 46"},
 		{api.Told{Kind: api.ToldWatched, Watch: watch, Stamp: 9, Part: api.Part{Id: 5, Shot: api.Shot{Stamp: 9, Nodes: nodes}}}, `is granted 5 at 9 [/a "x\n" 7] ["a b" "" -1]`},
@@ -282,7 +283,7 @@ func TestToldThings(t *testing.T) {
 		{api.Told{Kind: api.ToldItem, Stamp: 8, Item: api.Item{Stamp: 8, After: 7, Changes: []api.Tagged{
 			{Change: api.Change{Kind: api.ChangeMade, Place: "/a", Data: "x"}, Tags: []int{1, 20}},
 			{Change: api.Change{Kind: api.ChangeSet, Place: "/b", Data: "\x01", Version: 3}, Tags: []int{2}},
-			{Change: api.Change{Kind: api.ChangeGone, Place: "/c", Version: 12}, Tags: []int{1, 2, 3, 4}}}}}, `takes 8 [made /a "x" 0: 1 20] [set /b "\x01" 3: 2] [gone /c "" 12: 1 2 3 4]`},
+			{Change: api.Change{Kind: api.ChangeGone, Place: "c", Version: 12}, Tags: []int{1, 2, 3, 4}}}}}, `takes 8 [made /a "x" 0: 1 20] [set /b "\x01" 3: 2] [gone "c" "" 12: 1 2 3 4]`},
 		{api.Told{Kind: api.ToldItem, Stamp: 8, Item: api.Item{Stamp: 8, Marker: true, Parts: []api.Part{{Id: 2}, {Id: 30, Shot: api.Shot{Stamp: 8, Nodes: nodes}}}}}, `takes marker 8 {2} {30 [/a "x\n" 7] ["a b" "" -1]}`},
 	} {
 		is(t, "P18.5: the line of "+tell(x.told), run.ToldText(x.told), x.want)

@@ -56,7 +56,7 @@ func (r *reader) take(kind wordKind) word {
 
 // advance goes on to the next word.
 func (r *reader) advance() {
-	r.run(isBlank)
+	r.runOf(isBlank)
 	if r.next == len(r.line) || r.line[r.next] == '#' {
 		r.word = word{kind: noWord}
 		return
@@ -67,7 +67,7 @@ func (r *reader) advance() {
 	case isDigit(c) || c == '-':
 		r.word = r.readNumber()
 	case c == '/':
-		r.word = word{kind: placeWord, text: strings.Clone(r.run(isOfPlace))}
+		r.word = word{kind: placeWord, text: strings.Clone(r.runOf(isOfPlace))}
 	case c == '"':
 		r.word = r.readQuoted()
 	case c == ';':
@@ -79,7 +79,7 @@ func (r *reader) advance() {
 }
 
 func (r *reader) readName() word {
-	text := r.run(isSmall)
+	text := r.runOf(isSmall)
 	if r.isNext(isDigit) {
 		giveUp()
 	}
@@ -92,7 +92,7 @@ func (r *reader) readNumber() word {
 		r.next++
 		sign = -1
 	}
-	digits := r.run(isDigit)
+	digits := r.runOf(isDigit)
 	value, err := strconv.Atoi(digits)
 	hasIdleZero := strings.HasPrefix(digits, "0") && (len(digits) > 1 || sign < 0)
 	if err != nil || value > api.MaxNumber || hasIdleZero || r.isNext(isLetter) {
@@ -147,8 +147,8 @@ func (r *reader) hexDigit() byte {
 	return 0
 }
 
-// run is the longest run of such bytes; the reader is behind it then.
-func (r *reader) run(belongs func(c byte) bool) string {
+// runOf is the longest run of such bytes; the reader is behind it then.
+func (r *reader) runOf(belongs func(c byte) bool) string {
 	from := r.next
 	for r.isNext(belongs) {
 		r.next++
