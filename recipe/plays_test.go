@@ -307,6 +307,38 @@ func TestTakenByNobody(t *testing.T) {
 	}
 }
 
+// TestWokenInVain: P20.11, a taker hears of an item ahead of the reply to a list that was made without it: nobody waits for what is there.
+func TestWokenInVain(t *testing.T) {
+	s := sceneOf(t, chanceOf(1, 39), "/l", map[string]int{}, jobOf(api.JobPut), jobOf(api.JobTake), jobOf(api.JobTake))
+	s.trouble, s.hub = math.MaxInt, roomy()
+	put, a, b := s.clients[0], s.clients[1], s.clients[2]
+	s.beginsSession(a)
+	s.until(a, api.HeldWaiting, "")
+	s.calms()
+	s.beginsSession(put)
+	s.until(put, api.HeldAsking, "own")
+	s.takesWish(put)
+	s.plays(put)
+	s.until(a, api.HeldWaiting, "list")
+	s.beginsSession(b)
+	s.until(b, api.HeldAsking, "two")
+	s.takesWish(b)
+	s.plays(b)
+	s.takesWish(a)
+	s.plays(a)
+	s.replies(put)
+	s.takesWish(put)
+	s.plays(put)
+	for s.brings(a) {
+	}
+	s.replies(a)
+	a.shows(api.HeldWaiting, "", 0, api.OK)
+	s.ends(b)
+	s.calms()
+	s.rests()
+	a.shows(api.HeldWaiting, "/l/item-00001", a.g.held.Stamp, api.OK, "it")
+}
+
 // TestElectionsPlayed: P20.13.
 func TestElectionsPlayed(t *testing.T) {
 	t.Parallel()

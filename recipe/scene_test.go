@@ -82,6 +82,12 @@ func sceneOf(t *testing.T, c chance, base string, tally map[string]int, jobs ...
 	return s
 }
 
+// roomy is a hub without markers, for a scene in which nothing has happened as yet.
+func roomy() *fan.Hub {
+	hub, _ := fan.New(api.MaxQueue, api.MaxRing, 1)
+	return hub
+}
+
 // commit puts an entry into the history.
 func (s *scene) commit(kind, session, request int, o *order) api.Reply {
 	e := api.Entry{Stamp: s.tree.Last() + 1, View: 1, Kind: kind, Session: session, Request: request}
