@@ -203,6 +203,10 @@ func TestEvents(t *testing.T) {
 func TestFoldGoesOn(t *testing.T) {
 	l := seer(t)
 	l.hears(taken(event(20, dropsNode("/l/vote-00009", 5))))
+	// Nor does an item without the id bring it on.
+	l.hears(taken(event(21)))
+	l.hears(taken(event(22, setsNode("/l/vote-00001", "no", 1, 4), dropsNode("/l/vote-00002", 6))))
+	l.hears(taken(marker(23, api.Part{Id: 4, Shot: shotOf(23, "/l", api.WatchSubtree)})))
 	l.hears(taken(event(7, setsNode("/l/vote-00001", "c", 1, 5))))
 	l.shows(api.HeldWaiting, "/l/vote-00003", 0, api.OK, "c")
 	l.hears(taken(event(7, setsNode("/l/vote-00001", "d", 2, 5))))
